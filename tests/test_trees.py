@@ -1,0 +1,216 @@
+"""Trees that the tests make themselves: written with brackets everywhere, and in the form as the document tells it.
+
+A tree here is a tuple: its kind, then its parts, texts and lists in the order written.
+"""
+
+import unittest
+
+from tests.helper import Dice, fault_of, form_of
+
+LEAVES = ("0", "1", "42", '""', '"a\\n\\"\\\\"', "yes", "no", "none", "a", "b_1", "Not")
+NAMES = ("x", "y", "z2")
+BETWEEN = {
+    "or": (1, 1, 2), "and": (2, 2, 3), "==": (4, 5, 5), "!=": (4, 5, 5), "<": (4, 5, 5), "<=": (4, 5, 5),
+    ">": (4, 5, 5), ">=": (4, 5, 5), "++": (5, 5, 6), "+": (6, 6, 7), "-": (6, 6, 7), "*": (7, 7, 8), "/": (7, 7, 8),
+    "%": (7, 7, 8),
+}
+STRENGTHS = {"?": 0, "not": 3, "minus": 8, "call": 9, "element": 9, "field": 9}
+WORDS = {"len": 1, "keys": 1, "text": 1, "num": 1, "roll": 1, "cut": 3, "with": 3}
+SHOWING = ("show", "table", "plot", "check", "do", "give")
+KINDS = ["leaf", "?", "not", "minus", "call", "element", "field", "list", "record", "fn"]
+
+
+def draw_expression(dice, room):
+    kind = dice.pick(KINDS + list(BETWEEN) + list(WORDS)) if room > 0 else "leaf"
+    if kind == "leaf":
+        return (kind, dice.pick(LEAVES))
+    if kind == "field":
+        return (kind, draw_expression(dice, room - 1), dice.pick(NAMES))
+    if kind == "fn":
+        return (kind, dice.pick(("",) + NAMES), [dice.pick(NAMES) for _ in range(dice.below(3))], draw_block(dice, room))
+    sizes = {"?": 3, "not": 1, "minus": 1, "element": 2, "call": 1 + dice.below(3), "list": dice.below(3)}
+    sizes["record"] = dice.below(3)
+    size = WORDS.get(kind, sizes.get(kind, 2))
+    parts = [draw_expression(dice, room - 1) for _ in range(size)]
+    if kind == "record":
+        return (kind, [dice.pick(NAMES) for _ in parts], parts)
+    return (kind, parts)
+
+
+def draw_block(dice, room):
+    return [draw_statement(dice, room - 1) for _ in range(dice.below(3) if room > 0 else 0)]
+
+
+def draw_statement(dice, room):
+    kind = dice.pick(SHOWING + ("let", "set", "if", "if else", "while", "for", "slider", "choice"))
+    if kind == "slider":
+        return (kind, dice.pick(NAMES), [dice.below(5) - 2 for _ in range(3)])
+    if kind == "choice":
+        return (kind, dice.pick(NAMES), dice.below(30), [dice.pick(('"a"', '""')) for _ in range(1 + dice.below(2))])
+    blocks = [draw_block(dice, room) for _ in range({"if": 1, "if else": 2, "while": 1, "for": 1}.get(kind, 0))]
+    return (kind, dice.pick(NAMES), draw_expression(dice, room), blocks)
+
+
+def parts_of(tree):
+    kind = tree[0]
+    if kind in ("leaf", "slider", "choice"):
+        return []
+    if kind == "field":
+        return [tree[1]]
+    if kind == "fn":
+        return tree[3]
+    if kind == "record":
+        return tree[2]
+    if len(tree) == 4:
+        return [tree[2]] + sum(tree[3], [])
+    return tree[1]
+
+
+def depth_of(tree):
+    return 1 + max([depth_of(part) for part in parts_of(tree)], default=0)
+
+
+class Writer:
+    """Writes trees; `expression` says where brackets stand, `gap` what stands where a blank may be."""
+
+    def __init__(self, expression, gap):
+        self.expression = expression
+        self.gap = gap
+
+    def statement(self, tree):
+        kind, name = tree[0], tree[1]
+        gap = self.gap
+        if kind == "slider":
+            first, low, high = tree[2]
+            return f"slider {name}{gap}={gap}{first} in {low},{gap}{high};"
+        if kind == "choice":
+            return f"choice {name}{gap}={gap}{tree[2]} in {f',{gap}'.join(tree[3])};"
+        value = self.expression(self, tree[2], 0)
+        blocks = f"{gap}else{gap}".join([self.block(block) for block in tree[3]])
+        if kind in ("let", "set"):
+            return f"{kind} {name}{gap}={gap}{value};"
+        if kind == "for":
+            return f"for {name} in {value}{gap}{blocks}"
+        if blocks:
+            return f"{kind.split()[0]} {value}{gap}{blocks}"
+        return f"{kind} {value};"
+
+    def block(self, statements):
+        if not statements:
+            return "{}"
+        gap = self.gap
+        return f"{{{gap}{gap.join([self.statement(statement) for statement in statements])}{gap}}}"
+
+    def bare(self, tree):
+        kind = tree[0]
+        gap = self.gap
+        if kind == "leaf":
+            return tree[1]
+        if kind == "field":
+            return f"{self.expression(self, tree[1], 9)}.{tree[2]}"
+        if kind == "fn":
+            return f"fn {tree[1]}({f',{gap}'.join(tree[2])}){gap}{self.block(tree[3])}"
+        if kind == "record":
+            fields = [f"{name}:{gap}{self.expression(self, part, 0)}" for name, part in zip(tree[1], tree[2])]
+            return f"({f',{gap}'.join(fields) or ':'})"
+        wanted = {"?": [1, 1, 1], "not": [4], "minus": [9], "call": [9, 0, 0], "element": [9, 0]}.get(kind, [0, 0, 0])
+        wanted = BETWEEN[kind][1:] if kind in BETWEEN else wanted
+        parts = [self.expression(self, part, strength) for part, strength in zip(tree[1], wanted)]
+        if kind in BETWEEN:
+            return f"{parts[0]} {kind} {parts[1]}"
+        if kind == "?":
+            return f"{parts[0]}{gap}?{gap}{parts[1]}{gap}:{gap}{parts[2]}"
+        first = parts[0] if parts else ""
+        listed = f",{gap}".join(parts)
+        others = f",{gap}".join(parts[1:])
+        ways = {
+            "not": f"not {first}", "minus": f"-{first}", "call": f"{first}({others})", "element": f"{first}[{others}]",
+            "list": f"[{listed}]",
+        }
+        return ways.get(kind, f"{kind}({listed})")
+
+
+def with_few_brackets(writer, tree, wanted):
+    kind = tree[0]
+    strength = BETWEEN[kind][0] if kind in BETWEEN else STRENGTHS.get(kind, 10)
+    return f"({writer.bare(tree)})" if wanted > strength else writer.bare(tree)
+
+
+def with_all_brackets(writer, tree, wanted):
+    return writer.bare(tree) if tree[0] == "leaf" else f"({writer.bare(tree)})"
+
+
+FORM = Writer(with_few_brackets, " ")
+BRACKETED = Writer(with_all_brackets, "")
+
+
+def without_pair(text, opening):
+    """The text without the round bracket at that place and the one that closes it."""
+    deep = 0
+    for place in range(opening, len(text)):
+        deep += (text[place] == "(") - (text[place] == ")")
+        if deep == 0:
+            return f"{text[:opening]} {text[opening + 1:place]} {text[place + 1:]}"
+    return text
+
+
+def brackets_deep(text):
+    deep = [0]
+    for sign in text:
+        deep.append(deep[-1] + (sign in "([{") - (sign in ")]}"))
+    return max(deep)
+
+
+class DrawnTrees(unittest.TestCase):
+    def drawn(self, seed, size):
+        dice = Dice(seed)
+        for number in range(size):
+            program = [draw_statement(dice, number % 7) for _ in range(1 + dice.below(3))]
+            bracketed = "".join([BRACKETED.statement(tree) + dice.pick(("", " ", "#\n")) for tree in program])
+            if len(bracketed) <= 600 and brackets_deep(bracketed) <= 24:
+                yield program, bracketed
+
+    def test_form_of_bracketed_texts(self):
+        read = 0
+        for program, bracketed in self.drawn(5, 3000):
+            depth = max([depth_of(tree) for tree in program])
+            self.assertLessEqual(depth, 40)
+            self.assertEqual(fault_of(bracketed), [0], bracketed)
+            form = "\n".join([FORM.statement(tree) for tree in program])
+            self.assertEqual(form_of(bracketed), form, bracketed)
+            if len(form) <= 600:
+                self.assertEqual(form_of(form), form)
+            read += 1
+        self.assertGreater(read, 1000)
+
+    def test_depth_of_chains(self):
+        dice = Dice(6)
+        for _ in range(300):
+            tree = ("leaf", "a")
+            text = "a"
+            for _ in range(35 + dice.below(9)):
+                other = draw_expression(dice, dice.below(2))
+                sign = dice.pick(list(BETWEEN)) if brackets_deep(text) < 20 else "field"
+                if sign == "field":
+                    tree, text = ("field", tree, "x"), f"{text if tree[0] == 'field' else f'({text})'}.x"
+                elif dice.below(3) > 0 and BETWEEN[sign][0] != 4 and tree[0] == sign:
+                    tree, text = (sign, [tree, other]), f"{text} {sign} {with_all_brackets(BRACKETED, other, 0)}"
+                else:
+                    tree, text = (sign, [tree, other]), f"({text}) {sign} {with_all_brackets(BRACKETED, other, 0)}"
+            text = f"do {text};"
+            if len(text) <= 600 and brackets_deep(text) <= 24:
+                depth = 1 + depth_of(tree)
+                self.assertEqual(fault_of(text), [5, depth] if depth > 40 else [0], text)
+
+    def test_no_brackets_of_a_form_can_be_left_out(self):
+        for program, bracketed in self.drawn(7, 600):
+            form = form_of(bracketed)
+            if len(form) > 600 or '"' in form:
+                continue
+            for place in range(len(form)):
+                if form[place] == "(":
+                    self.assertNotEqual(form_of(without_pair(form, place)), form)
+
+
+if __name__ == "__main__":
+    unittest.main()
