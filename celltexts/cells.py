@@ -1,7 +1,8 @@
 """The calls on cell texts. Each gives back a list of whole numbers; a refusal is its number alone."""
 
 from celltexts.faults import Fault
-from celltexts.reading import read_good
+from celltexts.reading import read_good, read_tokens
+from celltexts.telling import tell_statements, tell_tokens
 from celltexts.writing import write_program
 
 LONGEST_TEXT = 600
@@ -11,8 +12,12 @@ TOO_LONG = -1
 NOT_GOOD = -2
 
 
+def is_too_long(text):
+    return len(text) > LONGEST_TEXT
+
+
 def fault(text):
-    if len(text) > LONGEST_TEXT:
+    if is_too_long(text):
         return [TOO_LONG]
     try:
         read_good(text)
@@ -22,7 +27,7 @@ def fault(text):
 
 
 def form(text):
-    if len(text) > LONGEST_TEXT:
+    if is_too_long(text):
         return [TOO_LONG]
     try:
         program = read_good(text)
@@ -30,3 +35,25 @@ def form(text):
         return [NOT_GOOD]
     written = write_program(program)
     return [len(written)] + written
+
+
+# Reading goes no further than the tokens, so the faults behind them don't count here.
+def tokens(text):
+    if is_too_long(text):
+        return [TOO_LONG]
+    try:
+        found = read_tokens(text)
+    except Fault:
+        return [NOT_GOOD]
+    return [len(found)] + tell_tokens(found)
+
+
+def tree(text):
+    if is_too_long(text):
+        return [TOO_LONG]
+    try:
+        program = read_good(text)
+    except Fault:
+        return [NOT_GOOD]
+    told = tell_statements(program)
+    return [len(told)] + told

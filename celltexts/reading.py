@@ -2,7 +2,7 @@
 
 from celltexts.faults import DEEP_BRACKET, DEEP_PROGRAM, Fault
 from celltexts.grammar import read_program
-from celltexts.scanning import check_bytes, cut_tokens
+from celltexts.scanning import check_bytes, cut_tokens, end_token
 from celltexts.trees import greatest_depth
 
 DEEPEST_BRACKET = 24
@@ -11,12 +11,16 @@ DEEPEST_PROGRAM = 40
 
 # The checks stand in the order of the faults' numbers: the first fault is the one that's told.
 def read_good(text):
-    check_bytes(text)
-    tokens = cut_tokens(text)
+    tokens = read_tokens(text)
     check_brackets(tokens)
-    program = read_program(tokens)
+    program = read_program(tokens + [end_token(text)])
     check_depth(program)
     return program
+
+
+def read_tokens(text):
+    check_bytes(text)
+    return cut_tokens(text)
 
 
 # Closing brackets count even where none is open: whether they fit is for the grammar to say.

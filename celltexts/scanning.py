@@ -52,15 +52,18 @@ def check_bytes(text):
 
 
 def cut_tokens(text):
-    # The last token, END, stands at the text's length: there a text that ends too early has its fault.
     tokens = []
     place = pass_over(text, 0)
     while place < len(text):
         token = cut_token(text, place)
         tokens.append(token)
         place = pass_over(text, token.end)
-    tokens.append(Token("END", len(text), len(text), None))
     return tokens
+
+
+# It stands behind all tokens, at the text's length: there a text that ends too early has its fault.
+def end_token(text):
+    return Token("END", len(text), len(text), None)
 
 
 def pass_over(text, place):

@@ -1,6 +1,16 @@
-"""What the tests share: texts as lists of bytes, and numbers that look shuffled but are the same in every run."""
+"""What the tests share: texts as lists of bytes, answers taken apart, texts with faults, numbers that look shuffled but
+are the same in every run, and what is asked of every call."""
 
 from celltexts import cells
+
+# Of each fault's number, texts that have it.
+FAULTY = (
+    (1, ("\t", "show 1;\r\n", '"a\tb"', "show 1; # \x7f", "\xff")),
+    (2, ("$", "show 1; 00", 'show "a', "show " + "x" * 17 + ";", "show " + "9" * 31 + ";", 'show "\\t";', "show !a;")),
+    (3, ("(" * 25, "show " + "(" * 25 + "1" + ")" * 25 + ";", "if a {" * 25 + "}" * 25)),
+    (4, ("show 1", "show 1 + ;", "show (1", "show 1 < 2 < 3;", "show - -1;", "let len = 1;", "1;", "}", "show 1;;")),
+    (5, ("do 1" + "+1" * 39 + ";", "do a" + ".b" * 200 + ";", "show 1; do a" + "()" * 39 + ";")),
+)
 
 
 def to_bytes(text):
@@ -19,6 +29,29 @@ def form_of(text):
     if answer[0] != len(answer) - 1:
         raise AssertionError("the first number is not how many follow")
     return "".join([chr(byte) for byte in answer[1:]])
+
+
+def tokens_of(text):
+    """The tokens as (kind, place, size), or the refusal's list."""
+    return in_threes(cells.tokens(to_bytes(text)))
+
+
+def tree_of(text):
+    """The tree's numbers, or the refusal's list."""
+    answer = cells.tree(to_bytes(text))
+    if answer[0] < 0:
+        return answer
+    if answer[0] != len(answer) - 1:
+        raise AssertionError("the first number is not how many follow")
+    return answer[1:]
+
+
+def in_threes(answer):
+    if answer[0] < 0:
+        return answer
+    if answer[0] * 3 != len(answer) - 1:
+        raise AssertionError("the first number is not how many threes follow")
+    return [tuple(answer[at:at + 3]) for at in range(1, len(answer), 3)]
 
 
 class Dice:
@@ -41,3 +74,33 @@ class Untouchable(list):
 
     append = clear = extend = insert = pop = remove = reverse = sort = refuse
     __setitem__ = __delitem__ = __iadd__ = __imul__ = refuse
+
+
+class HandedInCases:
+    """For a test case with `call`, a function of the program, and `handed`, tuples of texts to hand in."""
+
+    def test_it_is_as_it_was_and_never_changed(self):
+        for texts in self.handed:
+            handed = [Untouchable(to_bytes(text)) for text in texts]
+            self.call(*handed)
+            self.assertEqual([list(text) for text in handed], [to_bytes(text) for text in texts])
+
+    def test_called_twice_the_answer_is_the_same(self):
+        for texts in self.handed:
+            handed = [to_bytes(text) for text in texts]
+            first = self.call(*handed)
+            kept = list(first)
+            first.append(7)
+            first[0] = 8
+            self.assertEqual(self.call(*handed), kept)
+
+    def test_what_was_called_before_does_not_count(self):
+        alone = [self.call(*[to_bytes(text) for text in texts]) for texts in self.handed]
+        backwards = [self.call(*[to_bytes(text) for text in texts]) for texts in self.handed[::-1]]
+        self.assertEqual(backwards[::-1], alone)
+
+    def test_whole_numbers_in_a_list(self):
+        for texts in self.handed:
+            answer = self.call(*[to_bytes(text) for text in texts])
+            self.assertIs(type(answer), list)
+            self.assertEqual({type(number) for number in answer}, {int})

@@ -7,7 +7,7 @@ still begin so. The texts are drawn from the grammar and then spoilt.
 import re
 import unittest
 
-from tests.helper import Dice, fault_of
+from tests.helper import Dice, fault_of, tokens_of
 
 GRAMMAR = '''
     PROGRAM  = STATEMENT*
@@ -168,20 +168,36 @@ def wrong_token(kind, token):
     return kind == "NUMBER" and (len(token) > 30 or (len(token) > 1 and token[0] == "0"))
 
 
-def expected_fault(text):
-    """The fault with its place; [0] also for a program that is too deep."""
+def cut(text):
+    """The fault 1 or 2 with its place, or [0]; and the tokens ahead of it, each with its place and kind."""
+    tokens = []
     for place, sign in enumerate(text):
         if sign != "\n" and not " " <= sign <= "~":
-            return [1, place]
-    tokens = []
+            return [1, place], tokens
     place = 0
     while place < len(text):
         match = TOKEN.match(text, place)
         if match is None or wrong_token(match.lastgroup, match.group()):
-            return [2, place]
+            return [2, place], tokens
         if match.lastgroup != "gap":
             tokens.append((place, match.lastgroup, match.group()))
         place = match.end()
+    return [0], tokens
+
+
+def expected_tokens(text):
+    fault, tokens = cut(text)
+    if fault != [0]:
+        return [-2]
+    numbers = {"NAME": 1, "NUMBER": 3, "QUOTED": 4, "sign": 5}
+    return [(2 if token in RESERVED else numbers[kind], place, len(token)) for place, kind, token in tokens]
+
+
+def expected_fault(text):
+    """The fault with its place; [0] also for a program that is too deep."""
+    fault, tokens = cut(text)
+    if fault != [0]:
+        return fault
     deep = 0
     for place, kind, token in tokens:
         deep += (token in ("(", "[", "{")) - (token in (")", "]", "}"))
@@ -243,6 +259,7 @@ def spread(dice, tokens):
 
 class AgainstTheGrammar(unittest.TestCase):
     def check(self, text):
+        self.assertEqual(tokens_of(text), expected_tokens(text), text)
         answer = fault_of(text)
         expected = expected_fault(text)
         if expected == [0] and answer[0] == 5:

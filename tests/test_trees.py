@@ -1,11 +1,12 @@
-"""Trees that the tests make themselves: written with brackets everywhere, and in the form as the document tells it.
+"""Trees that the tests make themselves: written with brackets everywhere, in the form as the document tells it, and as
+the numbers of the document's list.
 
 A tree here is a tuple: its kind, then its parts, texts and lists in the order written.
 """
 
 import unittest
 
-from tests.helper import Dice, fault_of, form_of
+from tests.helper import Dice, fault_of, form_of, to_bytes, tree_of
 
 LEAVES = ("0", "1", "42", '""', '"a\\n\\"\\\\"', "yes", "no", "none", "a", "b_1", "Not")
 NAMES = ("x", "y", "z2")
@@ -144,6 +145,74 @@ FORM = Writer(with_few_brackets, " ")
 BRACKETED = Writer(with_all_brackets, "")
 
 
+SAYS = {'""': [], '"a"': [97], '"a\\n\\"\\\\"': [97, 10, 34, 92]}
+NUMBERED_LEAVES = {"yes": [3], "no": [4], "none": [5]}
+NUMBERED_EXPRESSIONS = {"minus": 9, "not": 10, "?": 12, "element": 14}
+NUMBERED_STATEMENTS = (
+    "let", "set", "show", "table", "plot", "check", "do", "give", "if", "if else", "while", "for", "slider", "choice",
+)
+
+
+def numbered_bytes(found):
+    return [len(found)] + list(found)
+
+
+def numbered_list(rows):
+    return sum(rows, [len(rows)])
+
+
+def numbered_names(names):
+    return numbered_list([numbered_bytes(to_bytes(name)) for name in names])
+
+
+def numbered_leaf(token):
+    if token.isdigit():
+        return [1, int(token)]
+    if token in SAYS:
+        return [2] + numbered_bytes(SAYS[token])
+    return NUMBERED_LEAVES.get(token) or [6] + numbered_bytes(to_bytes(token))
+
+
+def numbered_expression(tree):
+    kind = tree[0]
+    if kind == "leaf":
+        return numbered_leaf(tree[1])
+    if kind == "field":
+        return [15] + numbered_expression(tree[1]) + numbered_bytes(to_bytes(tree[2]))
+    if kind == "fn":
+        begun = [18] + numbered_bytes(to_bytes(tree[1])) if tree[1] else [17]
+        return begun + numbered_names(tree[2]) + numbered_program(tree[3])
+    if kind == "record":
+        named = zip(tree[1], tree[2])
+        return [8] + numbered_list([numbered_bytes(to_bytes(name)) + numbered_expression(part) for name, part in named])
+    parts = [numbered_expression(part) for part in tree[1]]
+    if kind in BETWEEN:
+        return sum(parts, [11, list(BETWEEN).index(kind)])
+    if kind in WORDS:
+        return [16, list(WORDS).index(kind)] + numbered_list(parts)
+    if kind == "list":
+        return [7] + numbered_list(parts)
+    if kind == "call":
+        return [13] + parts[0] + numbered_list(parts[1:])
+    return sum(parts, [NUMBERED_EXPRESSIONS[kind]])
+
+
+def numbered_statement(tree):
+    kind = tree[0]
+    begun = [20 + NUMBERED_STATEMENTS.index(kind)]
+    if kind in ("let", "set", "for", "slider", "choice"):
+        begun += numbered_bytes(to_bytes(tree[1]))
+    if kind == "slider":
+        return begun + tree[2]
+    if kind == "choice":
+        return begun + [tree[2]] + numbered_list([numbered_bytes(SAYS[token]) for token in tree[3]])
+    return sum([numbered_program(block) for block in tree[3]], begun + numbered_expression(tree[2]))
+
+
+def numbered_program(statements):
+    return numbered_list([numbered_statement(statement) for statement in statements])
+
+
 def without_pair(text, opening):
     """The text without the round bracket at that place and the one that closes it."""
     deep = 0
@@ -182,6 +251,14 @@ class DrawnTrees(unittest.TestCase):
                 self.assertEqual(form_of(form), form)
             read += 1
         self.assertGreater(read, 1000)
+
+    def test_tree_of_bracketed_texts_and_of_their_forms(self):
+        for program, bracketed in self.drawn(8, 3000):
+            numbers = numbered_program(program)
+            self.assertEqual(tree_of(bracketed), numbers, bracketed)
+            form = form_of(bracketed)
+            if len(form) <= 600:
+                self.assertEqual(tree_of(form), numbers, form)
 
     def test_depth_of_chains(self):
         dice = Dice(6)
