@@ -2,12 +2,14 @@
 
 from celltexts.faults import Fault
 from celltexts.reading import read_good, read_tokens
-from celltexts.telling import tell_statements, tell_tokens
+from celltexts.telling import tell_places, tell_statements, tell_tokens
 from celltexts.writing import write_program
 
 LONGEST_TEXT = 600
 
 GOOD = 0
+THE_SAME = 1
+NOT_THE_SAME = 0
 TOO_LONG = -1
 NOT_GOOD = -2
 
@@ -57,3 +59,27 @@ def tree(text):
         return [NOT_GOOD]
     told = tell_statements(program)
     return [len(told)] + told
+
+
+# Two trees are the same if their numbers are, as a tree can be read back from its numbers.
+def same(text_a, text_b):
+    if is_too_long(text_a) or is_too_long(text_b):
+        return [TOO_LONG]
+    try:
+        program_a = read_good(text_a)
+        program_b = read_good(text_b)
+    except Fault:
+        return [NOT_GOOD]
+    if tell_statements(program_a) == tell_statements(program_b):
+        return [THE_SAME]
+    return [NOT_THE_SAME]
+
+
+def places(text):
+    if is_too_long(text):
+        return [TOO_LONG]
+    try:
+        program = read_good(text)
+    except Fault:
+        return [NOT_GOOD]
+    return [len(program)] + tell_places(program)

@@ -32,6 +32,9 @@ class Reader:
     def here(self):
         return self.tokens[self.at].place
 
+    def behind_last(self):
+        return self.tokens[self.at - 1].end
+
     def move_on(self):
         kind = self.look()
         self.at += 1
@@ -53,7 +56,11 @@ def read_program(tokens):
 def read_statements(reader, closing):
     statements = []
     while reader.look() != closing:
-        statements.append(read_statement(reader))
+        place = reader.here()
+        statement = read_statement(reader)
+        statement.place = place
+        statement.end = reader.behind_last()
+        statements.append(statement)
     return statements
 
 

@@ -1,4 +1,4 @@
-"""Tokens and trees, told as numbers.
+"""Tokens, trees and the places of statements, told as numbers.
 
 The functions call one another as trees stand within one another, so only trees of good texts are told.
 """
@@ -44,6 +44,13 @@ def tell_kind(kind):
     if kind in RESERVED:
         return RESERVED_WORD
     return TOKEN_NUMBERS.get(kind, SIGN)
+
+
+def tell_places(statements):
+    told = []
+    for statement in statements:
+        told.extend([statement.place, statement.end, statement.depth])
+    return told
 
 
 def put_together(pieces):

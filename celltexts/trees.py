@@ -39,12 +39,15 @@ def greatest_depth(trees):
 class Tree:
     # leaves: the names, whole numbers and said bytes that belong to this tree itself, in the order written.
     # parts: its expressions; blocks: its lists of statements.
+    # place, end: of a statement, the place of its first token and the place behind its last, set when it's read whole.
     # The depth is told here, part by part from the bottom, since a tree may be too deep to be gone through by calls.
     def __init__(self, kind, leaves, parts, blocks):
         self.kind = kind
         self.leaves = leaves
         self.parts = parts
         self.blocks = blocks
+        self.place = None
+        self.end = None
         below = [greatest_depth(block) for block in blocks]
         below.append(greatest_depth(parts))
         self.depth = 1 + max(below)

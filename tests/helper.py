@@ -46,6 +46,15 @@ def tree_of(text):
     return answer[1:]
 
 
+def same_of(text_a, text_b):
+    return cells.same(to_bytes(text_a), to_bytes(text_b))
+
+
+def places_of(text):
+    """The statements as (place, place behind, depth), or the refusal's list."""
+    return in_threes(cells.places(to_bytes(text)))
+
+
 def in_threes(answer):
     if answer[0] < 0:
         return answer

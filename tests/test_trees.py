@@ -6,7 +6,7 @@ A tree here is a tuple: its kind, then its parts, texts and lists in the order w
 
 import unittest
 
-from tests.helper import Dice, fault_of, form_of, to_bytes, tree_of
+from tests.helper import Dice, fault_of, form_of, places_of, same_of, to_bytes, tree_of
 
 LEAVES = ("0", "1", "42", '""', '"a\\n\\"\\\\"', "yes", "no", "none", "a", "b_1", "Not")
 NAMES = ("x", "y", "z2")
@@ -259,6 +259,51 @@ class DrawnTrees(unittest.TestCase):
             form = form_of(bracketed)
             if len(form) <= 600:
                 self.assertEqual(tree_of(form), numbers, form)
+
+    def test_same_as_itself_and_its_form_and_not_as_another(self):
+        before = None
+        unlike = 0
+        for program, bracketed in self.drawn(9, 1000):
+            self.assertEqual(same_of(bracketed, bracketed), [1])
+            form = form_of(bracketed)
+            if len(form) <= 600:
+                self.assertEqual((same_of(bracketed, form), same_of(form, bracketed)), ([1], [1]), bracketed)
+            if before is not None:
+                expected = [int(numbered_program(before[0]) == numbered_program(program))]
+                unlike += expected == [0]
+                self.assertEqual(same_of(bracketed, before[1]), expected)
+                self.assertEqual(same_of(before[1], bracketed), expected)
+            before = (program, bracketed)
+        self.assertGreater(unlike, 300)
+
+    def test_same_of_two_statements_that_are_small(self):
+        dice = Dice(10)
+        drawn = [draw_statement(dice, number % 2) for number in range(80)]
+        alike = 0
+        for tree in drawn:
+            for other in drawn:
+                # A statement without a name of its own is drawn with one all the same.
+                expected = numbered_statement(tree) == numbered_statement(other)
+                alike += expected
+                self.assertEqual(same_of(BRACKETED.statement(tree), FORM.statement(other)), [int(expected)])
+        self.assertGreater(alike, len(drawn))
+
+    def test_places_of_drawn_programs(self):
+        dice = Dice(11)
+        told = 0
+        for number in range(2000):
+            text = dice.pick(("", " ", "# a;\n", "\n\n"))
+            expected = []
+            for _ in range(dice.below(5)):
+                tree = draw_statement(dice, number % 6)
+                written = dice.pick((BRACKETED, FORM)).statement(tree)
+                expected.append((len(text), len(text) + len(written), depth_of(tree)))
+                text += written + dice.pick(("", "", " ", "\n", " \n ", "# b;\n"))
+            text += dice.pick(("", " ", "\n", "# c", "#", " #\n"))
+            if len(text) <= 600 and brackets_deep(text) <= 24:
+                self.assertEqual(places_of(text), expected, text)
+                told += len(expected) > 1
+        self.assertGreater(told, 500)
 
     def test_depth_of_chains(self):
         dice = Dice(6)
