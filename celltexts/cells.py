@@ -2,8 +2,8 @@
 
 from celltexts.faults import Fault
 from celltexts.reading import read_good, read_tokens
-from celltexts.telling import tell_places, tell_statements, tell_tokens
-from celltexts.writing import write_program
+from celltexts.telling import tell_bytes, tell_places, tell_statements, tell_tokens
+from celltexts.writing import write_program, write_statement
 
 LONGEST_TEXT = 600
 
@@ -12,6 +12,8 @@ THE_SAME = 1
 NOT_THE_SAME = 0
 TOO_LONG = -1
 NOT_GOOD = -2
+NO_SUCH_STATEMENTS = -3
+LONG_FORM = -4
 
 
 def is_too_long(text):
@@ -35,8 +37,7 @@ def form(text):
         program = read_good(text)
     except Fault:
         return [NOT_GOOD]
-    written = write_program(program)
-    return [len(written)] + written
+    return tell_bytes(write_program(program))
 
 
 # Reading goes no further than the tokens, so the faults behind them don't count here.
@@ -83,3 +84,31 @@ def places(text):
     except Fault:
         return [NOT_GOOD]
     return [len(program)] + tell_places(program)
+
+
+def piece(k, text):
+    if is_too_long(text):
+        return [TOO_LONG]
+    try:
+        program = read_good(text)
+    except Fault:
+        return [NOT_GOOD]
+    if not 0 <= k < len(program):
+        return [NO_SUCH_STATEMENTS]
+    return tell_bytes(write_statement(program[k]))
+
+
+def splice(k, n, text_a, text_b):
+    if is_too_long(text_a) or is_too_long(text_b):
+        return [TOO_LONG]
+    try:
+        program_a = read_good(text_a)
+        program_b = read_good(text_b)
+    except Fault:
+        return [NOT_GOOD]
+    if k < 0 or n < 0 or k + n > len(program_a):
+        return [NO_SUCH_STATEMENTS]
+    written = write_program(program_a[:k] + program_b + program_a[k + n:])
+    if is_too_long(written):
+        return [LONG_FORM]
+    return tell_bytes(written)

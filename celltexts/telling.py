@@ -64,7 +64,7 @@ def tell_list(pieces):
     return [len(pieces)] + put_together(pieces)
 
 
-# Names, and what quoted texts say.
+# Names, what quoted texts say, and forms.
 def tell_bytes(said):
     return [len(said)] + said
 

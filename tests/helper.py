@@ -23,12 +23,17 @@ def fault_of(text):
 
 def form_of(text):
     """The form as a text, or the refusal's list."""
-    answer = cells.form(to_bytes(text))
-    if answer[0] < 0:
-        return answer
-    if answer[0] != len(answer) - 1:
-        raise AssertionError("the first number is not how many follow")
-    return "".join([chr(byte) for byte in answer[1:]])
+    return to_text(cells.form(to_bytes(text)))
+
+
+def piece_of(k, text):
+    """The statement's form as a text, or the refusal's list."""
+    return to_text(cells.piece(k, to_bytes(text)))
+
+
+def splice_of(k, n, text_a, text_b):
+    """The form as a text, or the refusal's list."""
+    return to_text(cells.splice(k, n, to_bytes(text_a), to_bytes(text_b)))
 
 
 def tokens_of(text):
@@ -39,11 +44,7 @@ def tokens_of(text):
 def tree_of(text):
     """The tree's numbers, or the refusal's list."""
     answer = cells.tree(to_bytes(text))
-    if answer[0] < 0:
-        return answer
-    if answer[0] != len(answer) - 1:
-        raise AssertionError("the first number is not how many follow")
-    return answer[1:]
+    return answer if is_refusal(answer) else counted(answer)
 
 
 def same_of(text_a, text_b):
@@ -55,8 +56,22 @@ def places_of(text):
     return in_threes(cells.places(to_bytes(text)))
 
 
+def is_refusal(answer):
+    return len(answer) == 1 and answer[0] < 0
+
+
+def counted(answer):
+    if answer[0] != len(answer) - 1:
+        raise AssertionError("the first number is not how many follow")
+    return answer[1:]
+
+
+def to_text(answer):
+    return answer if is_refusal(answer) else "".join([chr(byte) for byte in counted(answer)])
+
+
 def in_threes(answer):
-    if answer[0] < 0:
+    if is_refusal(answer):
         return answer
     if answer[0] * 3 != len(answer) - 1:
         raise AssertionError("the first number is not how many threes follow")
@@ -85,18 +100,23 @@ class Untouchable(list):
     __setitem__ = __delitem__ = __iadd__ = __imul__ = refuse
 
 
+def to_handed(values, kind=list):
+    """Texts as lists of that kind, whole numbers as they are."""
+    return [kind(to_bytes(value)) if isinstance(value, str) else value for value in values]
+
+
 class HandedInCases:
-    """For a test case with `call`, a function of the program, and `handed`, tuples of texts to hand in."""
+    """For a test case with `call`, a function of the program, and `handed`, tuples of texts and numbers to hand in."""
 
     def test_it_is_as_it_was_and_never_changed(self):
-        for texts in self.handed:
-            handed = [Untouchable(to_bytes(text)) for text in texts]
+        for values in self.handed:
+            handed = to_handed(values, Untouchable)
             self.call(*handed)
-            self.assertEqual([list(text) for text in handed], [to_bytes(text) for text in texts])
+            self.assertEqual(handed, to_handed(values))
 
     def test_called_twice_the_answer_is_the_same(self):
-        for texts in self.handed:
-            handed = [to_bytes(text) for text in texts]
+        for values in self.handed:
+            handed = to_handed(values)
             first = self.call(*handed)
             kept = list(first)
             first.append(7)
@@ -104,12 +124,12 @@ class HandedInCases:
             self.assertEqual(self.call(*handed), kept)
 
     def test_what_was_called_before_does_not_count(self):
-        alone = [self.call(*[to_bytes(text) for text in texts]) for texts in self.handed]
-        backwards = [self.call(*[to_bytes(text) for text in texts]) for texts in self.handed[::-1]]
+        alone = [self.call(*to_handed(values)) for values in self.handed]
+        backwards = [self.call(*to_handed(values)) for values in self.handed[::-1]]
         self.assertEqual(backwards[::-1], alone)
 
     def test_whole_numbers_in_a_list(self):
-        for texts in self.handed:
-            answer = self.call(*[to_bytes(text) for text in texts])
+        for values in self.handed:
+            answer = self.call(*to_handed(values))
             self.assertIs(type(answer), list)
             self.assertEqual({type(number) for number in answer}, {int})

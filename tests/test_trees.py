@@ -6,7 +6,7 @@ A tree here is a tuple: its kind, then its parts, texts and lists in the order w
 
 import unittest
 
-from tests.helper import Dice, fault_of, form_of, places_of, same_of, to_bytes, tree_of
+from tests.helper import Dice, fault_of, form_of, piece_of, places_of, same_of, splice_of, to_bytes, tree_of
 
 LEAVES = ("0", "1", "42", '""', '"a\\n\\"\\\\"', "yes", "no", "none", "a", "b_1", "Not")
 NAMES = ("x", "y", "z2")
@@ -304,6 +304,33 @@ class DrawnTrees(unittest.TestCase):
                 self.assertEqual(places_of(text), expected, text)
                 told += len(expected) > 1
         self.assertGreater(told, 500)
+
+    def test_pieces_of_drawn_programs(self):
+        for program, bracketed in self.drawn(12, 700):
+            for k, tree in enumerate(program):
+                self.assertEqual(piece_of(k, bracketed), FORM.statement(tree), bracketed)
+            for k in (-1, len(program)):
+                self.assertEqual(piece_of(k, bracketed), [-3], bracketed)
+
+    def test_splices_of_drawn_programs(self):
+        dice = Dice(14)
+        before = ([], "")
+        seen = {}
+        for program, bracketed in self.drawn(13, 1200):
+            k = dice.below(5) - 1
+            n = dice.below(5) - 1
+            spliced = program[:max(k, 0)] + before[0] + program[max(k, 0) + max(n, 0):]
+            expected = "\n".join([FORM.statement(tree) for tree in spliced])
+            if len(expected) > 600:
+                expected = [-4]
+            if k < 0 or n < 0 or k + n > len(program):
+                expected = [-3]
+            self.assertEqual(splice_of(k, n, bracketed, before[1]), expected, (k, n, bracketed, before[1]))
+            outcome = expected[0] if isinstance(expected, list) else 0
+            seen[outcome] = seen.get(outcome, 0) + 1
+            before = (program, bracketed)
+        self.assertEqual(sorted(seen), [-4, -3, 0])
+        self.assertGreater(seen[0], 200)
 
     def test_depth_of_chains(self):
         dice = Dice(6)
