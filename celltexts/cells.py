@@ -3,6 +3,8 @@
 from celltexts.faults import Fault
 from celltexts.reading import read_good, read_tokens
 from celltexts.telling import tell_bytes, tell_places, tell_statements, tell_tokens
+from celltexts.trees import greatest_depth
+from celltexts.weighing import count_opening, count_trees
 from celltexts.writing import write_program, write_statement
 
 LONGEST_TEXT = 600
@@ -112,3 +114,16 @@ def splice(k, n, text_a, text_b):
     if is_too_long(written):
         return [LONG_FORM]
     return tell_bytes(written)
+
+
+# The form's tokens are those of its bytes, however many: a bracket inside a quoted text is none of them.
+def weigh(text):
+    if is_too_long(text):
+        return [TOO_LONG]
+    try:
+        program = read_good(text)
+    except Fault:
+        return [NOT_GOOD]
+    in_text = count_opening(read_tokens(text))
+    in_form = count_opening(read_tokens(write_program(program)))
+    return [greatest_depth(program)] + count_trees(program) + [in_text, in_form]

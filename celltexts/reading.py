@@ -2,7 +2,7 @@
 
 from celltexts.faults import DEEP_BRACKET, DEEP_PROGRAM, Fault
 from celltexts.grammar import read_program
-from celltexts.scanning import check_bytes, cut_tokens, end_token
+from celltexts.scanning import CLOSING, OPENING, check_bytes, cut_tokens, end_token
 from celltexts.trees import greatest_depth
 
 DEEPEST_BRACKET = 24
@@ -27,11 +27,11 @@ def read_tokens(text):
 def check_brackets(tokens):
     deep = 0
     for token in tokens:
-        if token.kind in ("(", "[", "{"):
+        if token.kind in OPENING:
             deep += 1
             if deep > DEEPEST_BRACKET:
                 raise Fault(DEEP_BRACKET, token.place)
-        elif token.kind in (")", "]", "}"):
+        elif token.kind in CLOSING:
             deep -= 1
 
 

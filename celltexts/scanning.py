@@ -33,6 +33,9 @@ ONE_BYTE_SIGNS = {
     60: "<", 61: "=", 62: ">", 63: "?", 91: "[", 93: "]", 123: "{", 125: "}",
 }
 
+OPENING = ("(", "[", "{")
+CLOSING = (")", "]", "}")
+
 
 class Token:
     # kind: NAME, NUMBER, QUOTED, END, or the very reserved word or sign.

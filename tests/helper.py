@@ -56,6 +56,10 @@ def places_of(text):
     return in_threes(cells.places(to_bytes(text)))
 
 
+def weigh_of(text):
+    return cells.weigh(to_bytes(text))
+
+
 def is_refusal(answer):
     return len(answer) == 1 and answer[0] < 0
 

@@ -6,7 +6,9 @@ A tree here is a tuple: its kind, then its parts, texts and lists in the order w
 
 import unittest
 
-from tests.helper import Dice, fault_of, form_of, piece_of, places_of, same_of, splice_of, to_bytes, tree_of
+from tests.helper import (
+    Dice, fault_of, form_of, piece_of, places_of, same_of, splice_of, to_bytes, tree_of, weigh_of,
+)
 
 LEAVES = ("0", "1", "42", '""', '"a\\n\\"\\\\"', "yes", "no", "none", "a", "b_1", "Not")
 NAMES = ("x", "y", "z2")
@@ -69,6 +71,15 @@ def parts_of(tree):
 
 def depth_of(tree):
     return 1 + max([depth_of(part) for part in parts_of(tree)], default=0)
+
+
+def trees_within(tree):
+    return sum([trees_within(part) for part in parts_of(tree)], [tree])
+
+
+def opening_brackets(text):
+    """No quoted text and no comment that is drawn here has a bracket."""
+    return len([sign for sign in text if sign in "([{"])
 
 
 class Writer:
@@ -331,6 +342,17 @@ class DrawnTrees(unittest.TestCase):
             before = (program, bracketed)
         self.assertEqual(sorted(seen), [-4, -3, 0])
         self.assertGreater(seen[0], 200)
+
+    def test_weights_of_drawn_programs(self):
+        for program, bracketed in self.drawn(15, 1500):
+            within = sum([trees_within(tree) for tree in program], [])
+            statements = len([tree for tree in within if tree[0] in NUMBERED_STATEMENTS])
+            form = "\n".join([FORM.statement(tree) for tree in program])
+            depth = max([depth_of(tree) for tree in program])
+            weight = [depth, statements, len(within) - statements]
+            self.assertEqual(weigh_of(bracketed), weight + [opening_brackets(bracketed), opening_brackets(form)], bracketed)
+            if len(form) <= 600:
+                self.assertEqual(weigh_of(form), weight + [opening_brackets(form)] * 2, form)
 
     def test_depth_of_chains(self):
         dice = Dice(6)
